@@ -1,9 +1,21 @@
 """What a value that is passed has to be, wherever the package asks for it."""
 
+HANDS = 100
+
 
 def is_an_integer(value):
     """Whether this is an integer; True and False are never taken for numbers."""
     return isinstance(value, int) and not isinstance(value, bool)
+
+
+def is_between(value, least, most):
+    """Whether this is an integer from least to most."""
+    return is_an_integer(value) and least <= value <= most
+
+
+def is_hand(value):
+    """Whether this is the number of a hand."""
+    return is_between(value, 0, HANDS - 1)
 
 
 def is_list(value):

@@ -4,6 +4,13 @@ from chargeways.checks import are_different_words
 
 ROW_KINDS = ("take", "give", "move", "lift")
 
+# the words that go along a way, group by group, and those of them that ask whether the limit lets it
+WAY_WORDS = ("look", "add", "try", "off")
+TESTS = ("look", "try")
+
+# by how much the count of a group changes with each word, for each charge of the walk
+CHANGES = {"add": 1, "try": 1, "off": -1, "both": -1, "undo": -1}
+
 LIFT_ROWS = ((), ("set",), ("off",), ("set", "off"), ("off", "set"), ("both",))
 
 
