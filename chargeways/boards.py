@@ -4,35 +4,35 @@ from chargeways.trees import Tree
 
 
 class Board:
-    """What is told of each key at the moment, None where nothing is.
+    """What is told of each key at the moment; a key of which nothing is told is not there.
 
     The keys are "tree" and "things" (how many); ("count", group) and ("limit", group); ("lives", thing) and
     ("home", thing); ("charge", group, thing); ("walk", hand) and ("stock", hand).
     """
 
     def __init__(self):
-        self._now = {"tree": Tree(), "things": 0}
+        self.now = {"tree": Tree(), "things": 0}
         self._replaced = []
         self._done = []
 
     def told(self, key, default=None):
-        """What is told of the key."""
-        return self._now.get(key, default)
+        """What is told of the key, the default if nothing is."""
+        return self.now.get(key, default)
 
     def put(self, key, value):
-        """Tell this value of the key, as a part of the deed that is being done."""
-        self._replaced.append((key, self._now.get(key)))
+        """Tell this value of the key, None for nothing, as a part of the deed that is being done."""
+        self._replaced.append((key, self.now.get(key)))
         self._set(key, value)
 
     def grow(self, key, number):
         """Make the number that is told of the key greater, as a part of the deed that is being done."""
-        self.put(key, self._now.get(key, 0) + number)
+        self.put(key, self.now.get(key, 0) + number)
 
     def _set(self, key, value):
         if value is None:
-            self._now.pop(key, None)
+            self.now.pop(key, None)
         else:
-            self._now[key] = value
+            self.now[key] = value
 
     def close(self, deed):
         """Note that this deed is done, with all that was put since the one ahead of it."""
@@ -57,6 +57,6 @@ class Board:
     def twin(self):
         """A board of its own, equal in all."""
         other = Board()
-        other._now = {key: self._now[key] for key in self._now}
+        other.now = {key: self.now[key] for key in self.now}
         other._done = list(self._done)
         return other

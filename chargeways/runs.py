@@ -40,18 +40,17 @@ class Run:
     @property
     def tree(self):
         """The tree as it is now."""
-        return self._board.told("tree")
+        return self._board.now["tree"]
 
     @property
     def at_rest(self):
         """Whether no hand has a walk or a stock."""
-        held = [self._board.told((word, hand)) for word in ("walk", "stock") for hand in range(HANDS)]
-        return all([one is None for one in held])
+        return not any([(word, hand) in self._board.now for word in ("walk", "stock") for hand in range(HANDS)])
 
     @property
     def things(self):
         """How many things there are, also those that never lived or live no more."""
-        return self._board.told("things")
+        return self._board.now["things"]
 
     def count(self, group):
         """The count of the group."""

@@ -159,7 +159,7 @@ def over(kind, parts):
 def fail_deeds(book, kind, parts):
     """The deeds by which a test of the walk of this kind fails."""
     told = parts[kind]
-    if kind not in UNDOING or book.fails == "wait" or not may_fail(book, kind, told):
+    if book.fails == "wait" or not may_fail(book, kind, told):
         return []
     done = book.row(kind)[:told[0]]
     if book.fails == "undo" and any([weight(book, kind, told, word) == 1 for word in done]):

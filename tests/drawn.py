@@ -3,7 +3,7 @@
 from chargeways import audits
 from chargeways.errors import LimitError, StandError, WayError
 from chargeways.runs import Run
-from common import draw_book, shown
+from common import draw_book
 from plainrun import Fault, PlainRun
 
 # how often each deed is drawn where it can be done

@@ -73,7 +73,7 @@ class PlainRun:
     # walks
 
     def going(self, walk, hand):
-        """The walk: it yields its next single deed, and does it when it is gone on with; self.told tells what it did."""
+        """The walk yields its next single deed, and does it when it is gone on with; self.told tells what it did."""
         added = []
         for word in walk.row:
             for group in self.groups(walk, word):

@@ -227,7 +227,8 @@ class TestCharges(AuditChecks):
             run.take(0, 2)
             self.assert_same(all_charged(run, 0), [0] * 7)
             run.step(0)
-            self.assert_same((all_charged(run, 0), all_spare(run)), ([0, 0, 1, 0, 0, 0, 0], [0, 0, batch - 1, 0, 0, 0, 0]))
+            self.assert_same((all_charged(run, 0), all_spare(run)),
+                             ([0, 0, 1, 0, 0, 0, 0], [0, 0, batch - 1, 0, 0, 0, 0]))
             run.step(0)
             run.step(0)
             self.assert_same((all_charged(run, 0), all_spare(run)), ([1, 1, 1, 0, 0, 0, 0], [batch - 1] * 3 + [0] * 4))
@@ -255,7 +256,8 @@ class TestCharges(AuditChecks):
         taken(run, 9, 2)
         self.assert_same(all_charged(run, ("stock", 9)), [3, 3, 3, 0, 0, 0, 0])
         run.take(9, 2)
-        self.assert_same((all_charged(run, ("stock", 9)), all_charged(run, 1)), ([2, 2, 2, 0, 0, 0, 0], [1, 1, 1, 0, 0, 0, 0]))
+        self.assert_same((all_charged(run, ("stock", 9)), all_charged(run, 1)),
+                         ([2, 2, 2, 0, 0, 0, 0], [1, 1, 1, 0, 0, 0, 0]))
         run.settle(9)
         self.assert_same(all_spare(run), [2, 2, 2, 0, 0, 0, 0])
         run.step(9)
@@ -401,7 +403,7 @@ class TestSightsOfGives(AuditChecks):
     def test_home_off_end(self):
         run = self.given(("home", "off", "end"))
         self.assert_sights(run.copy(), 1, 0, 0, seen(0, 1, 1, give=(0, -1)), seen(0, 1, 1, give=(1, 1)),
-                           seen(0, 1, 1, give=(1, 1)), seen(0, 1, 1, give=(2, 1)), seen(0, 1, 1, give=(2, 1)), seen(0, 3, 1))
+                           seen(0, 1, 1, give=(1, 1)), *[seen(0, 1, 1, give=(2, 1))] * 2, seen(0, 3, 1))
         self.assert_sights(run.copy(), 2, 0, 0, seen(0, 1, 2, give=(0, -1)), seen(0, 1, 2, give=(1, 1)),
                            *[seen(0, 1, 2, give=(2, 1))] * 3, seen(0, 3, 2))
         self.assert_sights(run.copy(), 6, 0, 0, seen(0, 1, 3, give=(0, -1)), *[seen(0, 1, 3, give=(1, 0))] * 3,
@@ -510,11 +512,11 @@ class TestSightsOfLifts(AuditChecks):
         return run
 
     def test_each_row(self):
-        for row, behind in ((("set",), []), (("off",), []), (("both",), []), (("set", "off"), [0]), (("off", "set"), [1])):
-            run, sets = self.lifted(row), "off" not in row[:1]
+        for row in (("set",), ("off",), ("both",), ("set", "off"), ("off", "set")):
+            run = self.lifted(row)
             for group, struck, home, end in ((3, 1, 2, 3), (2, 0, 1, 2), (1, 0, 1, 1), (5, 0, 3, 3)):
                 begin = seen(struck, 1, home, lift=(0, home))
-                between = [seen(struck, 1, end if sets else home, lift=(1, home)) for _ in behind]
+                between = [seen(struck, 1, end if row[0] == "set" else home, lift=(1, home)) for _ in row[1:]]
                 last = seen(struck, 1, home if row == ("off",) else end)
                 self.assert_sights(run.copy(), group, 0, 0, begin, *between, last)
 

@@ -8,6 +8,7 @@ from chargeways import books
 from chargeways.books import Book
 from chargeways.errors import InvalidCount, InvalidHolds, InvalidKind, InvalidRow, InvalidWord
 from chargeways.trees import Tree
+from common import Checks
 
 WORDS = ("look", "add", "try", "off", "live", "home", "set", "end", "both")
 KINDS = ("take", "give", "move", "lift")
@@ -70,17 +71,7 @@ def parts_of(book):
     return {name: parts[name] for name in NAMES}
 
 
-class TestBook(unittest.TestCase):
-
-    def assert_raises(self, error, values, call, *args, **named):
-        """The call raises just this error, with these values, told True from 1 and False from 0."""
-        with self.assertRaises(error) as held:
-            call(*args, **named)
-        self.assertIs(type(held.exception), error)
-        for name, value in values.items():
-            told = getattr(held.exception, name)
-            self.assertEqual(told, value)
-            self.assertIs(type(told), type(value))
+class TestBook(Checks):
 
     def assert_row(self, kind, row, wanted, **parts):
         """The row may stand beside the parts exactly if this is wanted."""

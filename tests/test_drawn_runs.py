@@ -90,11 +90,10 @@ class TestDrawnRuns(Checks):
                         self.assertEqual(run.count(group), sum(found) + spare(run, group), (seed, deed, group))
 
     def test_wrong_groups_at_rest(self):
-        rests = wrong = 0
+        wrong = 0
         for seed in range(3000, 3040):
             for run, _, _, _, _ in drawn_pair(random.Random(seed), 60, wrong=0):
                 pass
-            waits = run.book.fails == "wait"
             for group in range(len(run.tree)):
                 run.set_limit(group, None)
             at_rest_at_last(run)
@@ -103,12 +102,9 @@ class TestDrawnRuns(Checks):
             self.assertEqual([group for group in range(len(run.tree)) if gap(run, group) != 0], gaps)
             for group in range(1, len(run.tree)):
                 states = [sight(run, group, thing) for thing in range(run.things)]
-                # a take that was left stays new only as long as it is under way
-                self.assertTrue(all(is_rest(run.book, state) for state in states), (seed, waits))
+                self.assertTrue(all(is_rest(run.book, state) for state in states), seed)
                 self.assertEqual(sum(due_at(run.book, state) for state in states), due(run, group))
-            rests += 1
             wrong += gaps != []
-        self.assertEqual(rests, 40)
         self.assertGreater(wrong, 5)
 
     def test_each_deed_turns_each_sight_by_deeds_of_the_table(self):

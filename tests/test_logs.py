@@ -5,7 +5,7 @@ import unittest
 
 from chargeways.audits import charged, sight, spare
 from chargeways.books import Book
-from chargeways.errors import (AtWork, DeedFailed, HasChildren, InvalidDeed, InvalidGroup, InvalidHand, InvalidLimit,
+from chargeways.errors import (AtWork, DeedFailed, HasChildren, InvalidDeed, InvalidGroup, InvalidHand,
                                InvalidThing, IsTop, LimitError, NoStock, NothingToUndo, NotLiving, NotStruck, NoWalk,
                                StandError, Struck, TooMany, UnderWay, WayError)
 from chargeways.runs import Run
@@ -15,7 +15,8 @@ from drawn import answer, audited, draw_deed
 NO_DEEDS = [
     None, True, False, 0, 1, "", "step", "step 0", b"step", [], (), {}, {"step": 0}, {"step"}, object(), len, tuple,
     ["step", 0], ["group", 0], [("group", 0)], (("group", 0),), ("group",), ("group", 0, 0), ("group", None),
-    ("group", True), ("group", "0"), ("group", (0,)), ("group", [0]), (None, 0), (0, "group"), (True, 0), (["group"], 0),
+    ("group", True), ("group", "0"), ("group", (0,)), ("group", [0]), (None, 0), (0, "group"), (True, 0),
+    (["group"], 0),
     ("Group", 0), ("group ", 0), (b"group", 0), ("", 0), ("new_group", 0), ("undo",), ("count", 0), ("wait", 0),
     ("try", 0), ("limit", 0), ("limit", 0, 1, 2), ("limit", None, 1), ("limit", None, None), ("limit", True, 1),
     ("limit", 0, False), ("limit", 0, "none"), ("limit", 0, []), ("limit", "0", None), ("strike",), ("strike", None),
@@ -59,9 +60,9 @@ class TestDo(RunChecks):
         run = run_on(Book(batch=2))
         for deed, wanted in ((("group", 0), 1), (("group", 1), 2), (("limit", 2, 9), None), (("limit", 2, None), None),
                              (("take", 4, 2), 0), (("step", 4), "try"), (("step", 4), "try"), (("step", 4), "try"),
-                             (("step", 4), "live"), (("strike", 2), None), (("settle", 4, 4), None), (("step", 4), "off"),
-                             (("lift", 1, 0), None), (("step", 1), "both"), (("move", 1, 0, 0), None),
-                             (("step", 1), "home"), (("take", 2, 1), 1)):
+                             (("step", 4), "live"), (("strike", 2), None), (("settle", 4, 4), None),
+                             (("step", 4), "off"), (("lift", 1, 0), None), (("step", 1), "both"),
+                             (("move", 1, 0, 0), None), (("step", 1), "home"), (("take", 2, 1), 1)):
             self.assert_does(run, deed, wanted)
 
     def test_errors_of_the_methods(self):
@@ -120,7 +121,8 @@ class TestDoAll(RunChecks):
                 ("take", 7, 3), ("step", 7)]
         for fault, error, values in (
                 (("group", 9), InvalidGroup, {"value": 9}), (("take", 7, 1), AtWork, {"hand": 7}),
-                (("take", 100, 1), InvalidHand, {"value": 100}), (("give", 9, 0), UnderWay, {"thing": 0, "kind": "give"}),
+                (("take", 100, 1), InvalidHand, {"value": 100}),
+                (("give", 9, 0), UnderWay, {"thing": 0, "kind": "give"}),
                 (("give", 9, 1), NotLiving, {"thing": 1}), (("lift", 9, 2), InvalidThing, {"value": 2}),
                 (("strike", 0), IsTop, {}), (("step", 8), NoWalk, {"hand": 8}), (("group", 2), Struck, {"group": 2})):
             self.assert_fails_at(run, len(good), error, values, [*good, fault, ("group", 0), ("nothing",)])
@@ -143,7 +145,7 @@ class TestDoAll(RunChecks):
 
     def test_steps_that_wait_are_let_and_do_nothing(self):
         run = run_on(Book(fails="wait"), [0], [(0, 0)])
-        self.assert_same(run.do_all([("take", 0, 1), ("step", 0), ("step", 0), ("step", 0), ("limit", 0, 1), ("step", 0)]),
+        self.assert_same(run.do_all([("take", 0, 1), *[("step", 0)] * 3, ("limit", 0, 1), ("step", 0)]),
                          [0, "try", "wait", "wait", None, "try"])
         self.assert_same(run.log()[2:], [("take", 0, 1), ("step", 0), ("limit", 0, 1), ("step", 0)])
         before = all_of(run)

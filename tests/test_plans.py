@@ -101,7 +101,8 @@ class TestEachKind(Checks):
                 self.assert_same(take_plan(Book(take=row), tree, group), wanted)
 
     def test_give_in_words(self):
-        self.assert_same(give_plan(Book(), TREE, 4), [("home", None), ("off", 4), ("off", 1), ("off", 0), ("end", None)])
+        self.assert_same(give_plan(Book(), TREE, 4),
+                         [("home", None), ("off", 4), ("off", 1), ("off", 0), ("end", None)])
         self.assert_same(give_plan(Book(give=("end", "home", "off")), TREE, 0),
                          [("end", None), ("home", None), ("off", 0)])
         self.assert_same(give_plan(Book(give=("end",)), TREE, 4), [("end", None)])
@@ -140,7 +141,8 @@ class TestEachKind(Checks):
     def test_move_apart_with_the_target_or_the_home_on_the_way_of_the_other_one(self):
         book = Book(move=("home", "look", "add", "off", "set"), shared=False)
         self.assert_same(move_plan(book, TREE, 5, 1), [("home", None), ("off", 5), ("off", 3), ("set", None)])
-        self.assert_same(move_plan(book, TREE, 5, 0), [("home", None), ("off", 5), ("off", 3), ("off", 1), ("set", None)])
+        self.assert_same(move_plan(book, TREE, 5, 0),
+                         [("home", None), ("off", 5), ("off", 3), ("off", 1), ("set", None)])
         self.assert_same(move_plan(book, TREE, 1, 5), [
             ("home", None), ("look", 5), ("look", 3), ("add", 5), ("add", 3), ("set", None)])
         self.assert_same(move_plan(book, TREE, 3, 3), [("home", None), ("set", None)])
@@ -219,7 +221,7 @@ class TestErrors(Checks):
 
     def test_no_groups(self):
         for value in NO_INTEGERS + [-1, 7, 200, -10 ** 30, 10 ** 30]:
-            for book in (Book(), Book(move=(), lift=())):
+            for book in (Book(), Book(take=("live", "add"), give=("end",), move=("set",)), Book(move=(), lift=())):
                 for call, args in ((take_plan, [book, TREE]), (give_plan, [book, TREE]), (lift_plan, [book, TREE]),
                                    (settle_plan, [TREE])):
                     self.assert_raises(InvalidGroup, {"value": value}, call, *args, value)

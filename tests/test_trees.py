@@ -8,15 +8,12 @@ from chargeways import trees
 from chargeways.books import Book
 from chargeways.errors import HasChildren, InvalidGroup, InvalidParents, InvalidStruck, IsTop, Struck, TooMany
 from chargeways.trees import Tree
+from common import NO_INTEGERS, NO_LISTS, Checks
 
 METHODS = {"parents": [], "struck": [], "parent": ["group"], "children": ["group"], "way": ["group"],
            "depth": ["group"], "is_struck": ["group"], "is_below": ["group", "seen"], "place": ["group", "seen"],
            "all_below": ["group"], "common": ["group", "seen"], "apart": ["group", "seen"],
            "with_group": ["group"], "with_struck": ["group"]}
-
-NO_INTEGERS = [True, False, None, "", "0", "1", b"1", [], [0], (), (0,), {}, {0: 0}, {0}, object(), len, int]
-
-NO_LISTS = [None, True, False, 0, 1, "", "0", b"", {}, {0: 0}, {0}, set(), object(), range(1), iter([0]), list]
 
 CHAIN = Tree(list(range(199)))
 STAR = Tree([0] * 199)
@@ -64,17 +61,7 @@ def struck_fault(parents, struck):
     return -1
 
 
-class TestTree(unittest.TestCase):
-
-    def assert_raises(self, error, values, call, *args, **named):
-        """The call raises just this error, with these values, told True from 1 and False from 0."""
-        with self.assertRaises(error) as held:
-            call(*args, **named)
-        self.assertIs(type(held.exception), error)
-        for name, value in values.items():
-            told = getattr(held.exception, name)
-            self.assertEqual(told, value)
-            self.assertIs(type(told), type(value))
+class TestTree(Checks):
 
     def assert_is(self, got, wanted):
         """Equal, and of the same kind, also within a list."""

@@ -6,7 +6,6 @@ import unittest
 from chargeways.books import Book
 from chargeways.errors import Held, NotLiving, UnderWay
 from chargeways.plans import give_plan, lift_plan, move_plan, settle_plan, take_plan
-from chargeways.runs import Run
 from common import FAILS, KINDS, ROWS, RunChecks, counts, fits, run_on, taken, words_to_the_end
 
 # 0 - 1 - 2 - 3 and 0 - 4 - 5, 1 - 6
@@ -401,7 +400,8 @@ class TestStocks(RunChecks):
         taken(run, 0, 3)
         run.strike(3)
         run.settle(9, 0)
-        self.assert_same([run.stock(0), run.working(), run.step(9), counts(run)], [None, [9], "off", [4, 4, 4, 1, 0, 0, 0]])
+        self.assert_same([run.stock(0), run.working(), run.step(9), counts(run)],
+                         [None, [9], "off", [4, 4, 4, 1, 0, 0, 0]])
         run.take(0, 2)
         self.assertEqual(words_to_the_end(run, 9), ["off", "off", "off"])
         self.assertEqual(counts(run), [1, 1, 1, 1, 0, 0, 0])
