@@ -22,9 +22,14 @@ def is_stock(run, value):
     return is_word(word, ("stock",)) and is_hand(hand) and run.stock(hand) is not None
 
 
+def is_unit(run, value):
+    """Whether this tells a thing or a stock of the run."""
+    return is_thing(run, value) or is_stock(run, value)
+
+
 def check_unit(run, value):
     """Raise InvalidUnit unless the value tells a thing or a stock of the run."""
-    if not is_thing(run, value) and not is_stock(run, value):
+    if not is_unit(run, value):
         raise InvalidUnit(value)
 
 

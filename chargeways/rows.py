@@ -27,6 +27,11 @@ def tests_are_ahead(row, word):
     return "look" not in behind and "try" not in behind
 
 
+def look_is_behind(row):
+    """Whether "look" stands behind "add", so that what is added is asked about too late."""
+    return "look" in row and "add" in row and row.index("look") > row.index("add")
+
+
 def off_has_home(row):
     """Whether "home" stands ahead of "off"; without it nobody knows what way to go."""
     return "off" not in row or "home" in row[:row.index("off")]

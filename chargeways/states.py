@@ -1,6 +1,6 @@
 """States: how one charge can stand to one group, and which deeds lead from one to others."""
 
-from chargeways.checks import is_an_integer, is_between
+from chargeways.checks import is_an_integer, is_between, is_list
 from chargeways.errors import InvalidState
 from chargeways.rows import CHANGES, TESTS
 
@@ -72,6 +72,21 @@ def check_state(book, value):
         raise InvalidState(value)
 
 
+def told_of_states(book, value, size):
+    """What a list of tuples of this size tells of its states, each once, as a dict; None if the value is none."""
+    if not is_list(value):
+        return None
+    found = {}
+    for entry in value:
+        if not isinstance(entry, tuple) or len(entry) != size:
+            return None
+        state, *told = entry
+        if not is_state(book, state) or state in found:
+            return None
+        found[state] = told
+    return found
+
+
 def parts_of(state):
     """The parts of the state by their names."""
     return dict(zip(PARTS, state))
@@ -141,8 +156,8 @@ def word_deeds(book, kind, parts):
             for changes in changes_by(book, kind, parts, word)]
 
 
-def may_fail(book, kind, told):
-    """Whether a test of the walk may fail: the next word, or the last one that has passed the group."""
+def needs_test(book, kind, told):
+    """Whether the next word of the walk needs a test: its own, or one that has passed the group already."""
     words = book.row(kind)
     place = told[0]
     if words[place] in TESTS:
@@ -159,7 +174,7 @@ def over(kind, parts):
 def fail_deeds(book, kind, parts):
     """The deeds by which a test of the walk of this kind fails."""
     told = parts[kind]
-    if book.fails == "wait" or not may_fail(book, kind, told):
+    if book.fails == "wait" or not needs_test(book, kind, told):
         return []
     done = book.row(kind)[:told[0]]
     if book.fails == "undo" and any([weight(book, kind, told, word) == 1 for word in done]):
@@ -226,9 +241,8 @@ def stock_deeds(parts):
     return found
 
 
-def deeds(book, state):
-    """The sorted list of the tuples (deed, weight, next state)."""
-    check_state(book, state)
+def deeds_from(book, state):
+    """The sorted list of the tuples (deed, weight, next state), of what surely is a state."""
     parts = parts_of(state)
     found = strike_deeds(parts) + begin_deeds(book, parts) + stock_deeds(parts)
     for kind in ("take", "give", "move", "lift"):
@@ -236,18 +250,34 @@ def deeds(book, state):
     return sorted(found)
 
 
+def deeds(book, state):
+    """The sorted list of the tuples (deed, weight, next state)."""
+    check_state(book, state)
+    return deeds_from(book, state)
+
+
 def nexts(book, state):
     """The sorted list of the next states, each once."""
     return sorted({state_behind for _, _, state_behind in deeds(book, state)})
 
 
+def rests(state):
+    """Whether what surely is a state is at rest."""
+    return state[1] != IN_STOCK and state[3:] == START[3:]
+
+
+def due_of(state):
+    """The due of what surely is a state, 0 or 1."""
+    return 1 if state[1] == LIVES and side_of(state[2]) == 1 else 0
+
+
 def is_rest(book, state):
     """Whether the state is at rest."""
     check_state(book, state)
-    return state[1] != IN_STOCK and all([told == () for told in state[3:]])
+    return rests(state)
 
 
 def due_at(book, state):
     """The due of the state, 0 or 1."""
     check_state(book, state)
-    return 1 if state[1] == LIVES and side_of(state[2]) == 1 else 0
+    return due_of(state)
