@@ -266,26 +266,22 @@ class TestJudging(Checks):
             return is_crowd(run.book, 1, run.log())
 
         self.assert_same([filled(limit, 3) for limit in (3, 6, 9)], [True, True, True])
-        run = Run(Book(batch=3))
-        run.do_all([("group", 0), ("limit", 1, 4)])
-        for _ in range(2):
-            run.take(0, 1)
-            words_to_the_end(run, 0)
-        run.settle(0)
-        words_to_the_end(run, 0)
-        self.assertEqual(run.count(1), 2)
-        self.assert_same(is_crowd(run.book, 1, run.log()), False)
         for limit in (2, 1, 0, -3, -(10 ** 39)):
             for value in ([("group", 0), ("limit", 1, limit)], [("limit", 0, limit)]):
                 self.assert_same(is_crowd(Book(batch=3), 1, value), False)
-        # a full group with the limit 4, which is no multiple of 3
-        deeds = [("group", 0), ("limit", 1, 4), ("take", 0, 1), *[("step", 0)] * 3, ("take", 0, 1), ("settle", 0, 0),
-                 *[("step", 0)] * 2]
-        more = [("group", 0), ("take", 1, 2), *[("step", 1)] * 3, ("take", 1, 2), ("move", 2, 3, 1),
-                *[("step", 2)] * 8, ("move", 2, 4, 1), *[("step", 2)] * 8]
-        for limit, wanted in ((4, False), (3, False), (6, False)):
-            told = [("limit", 1, limit) if deed[0] == "limit" else deed for deed in deeds + more]
-            self.assert_same(is_crowd(Book(batch=3), 1, told), wanted)
+
+    def test_a_full_group_whose_limit_is_no_multiple(self):
+        for batch, limit, wanted in ((3, 4, False), (3, 3, True), (3, 2, False), (2, 4, True), (2, 3, False), (4, 4, True),
+                                     (1, 4, True), (1, 3, True), (3, 6, False)):
+            run = Run(Book(batch=batch))
+            run.do_all([("group", 0), ("group", 0), ("limit", 1, limit)])
+            for thing in range(4):
+                run.take(0, 2)
+                words_to_the_end(run, 0)
+                run.move(1, thing, 1)
+                words_to_the_end(run, 1)
+            self.assertEqual(run.count(1), min(limit, 4))
+            self.assert_same(is_crowd(run.book, 1, run.log()), wanted)
 
     def test_hands_at_work(self):
         found = crowd(APART, 6)

@@ -153,17 +153,6 @@ class TestEnough(Checks):
         self.assert_same([least_holds(book, [wish]) for wish in WISHES], [[()], [("give", "lift")], [("give", "lift")],
                                                                           [("give", "lift")]])
 
-    def test_more_holds_may_break_free(self):
-        found = []
-        for fails, move in itertools.product(FAILS, [("home", "try", "set", "off"), ("home", "look", "set", "add", "off")]):
-            book = Book(fails=fails, move=move)
-            kept = {told: Plain(book.with_holds(told)).kept for told in ALL_HOLDS}
-            for less, more in itertools.product(ALL_HOLDS, ALL_HOLDS):
-                if set(less) < set(more) and "free" in kept[less] and "free" not in kept[more]:
-                    found.append((book, less, more))
-        for book, less, more in found[::4]:
-            self.assert_same([is_enough(book, less, ["free"]), is_enough(book, more, ["free"])], [True, False])
-
 
 class TestAlike(Checks):
 

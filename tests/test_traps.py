@@ -449,6 +449,18 @@ class TestTraps(Checks):
         self.assert_same(is_trap(book, "gone", (deeds, 1, 0, many)), False)
         self.assert_same(is_trap(book, "gone", (deeds, 1, 0, many[:2])), True)
 
+    def test_pairs_besides_those_of_the_unit(self):
+        deeds = [("group", 0), ("take", 7, 1), ("step", 7), ("step", 7), ("step", 7), ("strike", 1)]
+        book, pairs = Book(lift=()), [(state(1, 1, 2), 1)]
+        for more, wanted in (([(state(1, 3), 5)], True), ([(state(1, 3), -5)], True), ([(state(1, 3), 0)], False),
+                             ([(state(0, 3), 5), (state(1, 3), 5)], False), ([(state(0, 3), 5)], False),
+                             ([(state(1, 3, give=(2, 0)), 5), (state(1, 3), 5)], True),
+                             ([(state(1, 3, give=(2, 0)), 5), (state(1, 3), 4)], False),
+                             ([(state(1, 3, give=(1, 1)), 5), (state(1, 3, give=(2, 1)), 4), (state(1, 3), 4)], True),
+                             ([(state(1, 3, give=(1, 1)), 1), (state(1, 3, give=(2, 1)), 0), (state(1, 3), 0)], False)):
+            self.assertIs(is_trap(book, "gone", (deeds, 1, 0, pairs + more)), wanted)
+            self.assertIs(is_trap(book, "gone", (deeds, 1, 0, more)), False)
+
     def test_a_stock_is_told_by_one_charge(self):
         deeds = [("group", 0), ("take", 7, 1), ("step", 7), ("step", 7), ("step", 7), ("strike", 1)]
         for total in (1, 2, 3, 4, -1):
