@@ -43,7 +43,7 @@ def answer(run, word, *numbers):
     """The answer of the run to a command that is no deed."""
     match word:
         case "count":
-            return str(run.count(*numbers))
+            return str(run.count(numbers[0]))
         case "due":
             return str(due(run, *numbers))
         case "home":

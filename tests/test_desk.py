@@ -124,6 +124,33 @@ class TestCommands(DeskChecks):
         one.do_all("settle 0 0", "step 0")
         self.assert_answers(one, ("count 2", "1"), ("count 1", "3"))
 
+    def test_counts_before_and_behind_each_deed(self):
+        one = Desk(Book(batch=3))
+        self.assert_same(one.do("count 0"), "0")
+        self.assert_raises(InvalidGroup, {"value": 1}, one.do, "count 1")
+        one.do_all("group 0", "group 1")
+        # the counts of the groups 0, 1 and 2 behind the command
+        for command, answer, counts in (
+                ("work", "none", ["0", "0", "0"]), ("take 0 2", "0", ["0", "0", "0"]), ("step 0", "try", ["0", "0", "3"]),
+                ("step 0", "try", ["0", "3", "3"]), ("step 0", "try", ["3", "3", "3"]), ("step 0", "live", ["3", "3", "3"]),
+                ("take 0 2", "1", ["3", "3", "3"]), ("strike 2", "done", ["3", "3", "3"]),
+                ("lift 1 0", "done", ["3", "3", "3"]), ("step 1", "both", ["3", "3", "2"]),
+                ("settle 3 0", "done", ["3", "3", "2"]), ("step 3", "off", ["3", "3", "1"]),
+                ("step 3", "off", ["3", "2", "1"]), ("step 3", "off", ["2", "2", "1"]),
+                ("lift 1 1", "done", ["2", "2", "1"]), ("step 1", "both", ["2", "2", "0"]),
+                ("undo", "step 1", ["2", "2", "1"]), ("step 1", "both", ["2", "2", "0"]),
+                ("strike 1", "done", ["2", "2", "0"]), ("lift 1 1", "done", ["2", "2", "0"]),
+                ("step 1", "both", ["2", "1", "0"]), ("give 0 0", "done", ["2", "1", "0"]),
+                ("step 0", "home", ["2", "1", "0"]), ("step 0", "off", ["2", "0", "0"]),
+                ("step 0", "off", ["1", "0", "0"]), ("step 0", "end", ["1", "0", "0"])):
+            asked = [command, "count 0", "count 1", "count 2"]
+            self.assert_same(one.attempt(*asked), [answer, *counts])
+            self.assert_same(one.do_all(*asked), [answer, *counts])
+            self.assert_same([one.do(question) for question in asked[1:]], counts)
+            for wrong in ("count", "count 0 0", "count 0 1 2"):
+                self.assert_raises(InvalidCommand, {"value": wrong}, one.do, wrong)
+        self.assert_fault(one, InvalidGroup, {"value": 3}, "count 3")
+
     def test_a_count_below_0(self):
         one = Desk(Book(holds=()))
         one.do_all("group 0", "group 1", "take 0 2", *["step 0"] * 4, "give 0 0", "step 0", "strike 2", "lift 1 0", "step 1",
